@@ -48,8 +48,7 @@ def multiplied(one, other):
 
 def divided(one, other):
     """The quotient of two FRACTIONs, or NoFraction where the other is 0."""
-    if other[0] == 0:
-        raise NoFraction("nothing is divided by 0")
+    # Where the other is 0 the bottom is, too, which is refused there.
     return fraction_of(one[0] * other[1], one[1] * other[0])
 
 

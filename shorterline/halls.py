@@ -91,3 +91,35 @@ def hall_turned(hall, order):
     """The hall with its servers in the order of an ORDER."""
     come, servers, moved = hall
     return (come, tuple([servers[number] for number in order]), moved)
+
+
+def is_line(hall, thing):
+    """Whether any plain thing is a line's number."""
+    return is_whole_within(thing, 0, len(hall[1]) - 1)
+
+
+def is_lines(hall, thing):
+    """Whether any plain thing is LINES of a hall."""
+    servers = hall[1]
+    if not is_tuple_of(thing, len(servers)):
+        return False
+    for many, server in zip(thing, servers):
+        if not is_whole_within(many, 0, server[1]):
+            return False
+    return True
+
+
+def count_of_lines(hall):
+    """How many LINES a hall has."""
+    count = 1
+    for server in hall[1]:
+        count = count * (server[1] + 1)
+    return count
+
+
+def place_of_lines(hall, lines):
+    """The place of LINES, from 0, among all of the hall, rising."""
+    place = 0
+    for many, server in zip(lines, hall[1]):
+        place = place * (server[1] + 1) + many
+    return place

@@ -9,7 +9,9 @@ from samples import (
     THREE_UNLIKE, TWO_ALIKE, TWO_MOVED, TWO_UNLIKE,
 )
 from shorterline.errors import NoHall
-from shorterline.halls import all_lines, hall_turned, is_alike, is_hall, right_hall
+from shorterline.halls import (
+    all_lines, count_of_lines, hall_turned, is_alike, is_hall, place_of_lines, right_hall,
+)
 
 SLOW = (1, 10)
 SERVER = (SLOW, 2)
@@ -152,6 +154,12 @@ class HallTest(unittest.TestCase):
 
     def test_all_lines_of_the_largest_hall(self):
         self.assertEqual(len(all_lines(((1, 5), (((1, 5), 6),) * 4, False))), 7 ** 4)
+
+    def test_count_and_places_of_lines(self):
+        for hall in HALLS:
+            lines = all_lines(hall)
+            self.assertEqual(count_of_lines(hall), len(lines))
+            self.assertEqual([place_of_lines(hall, one) for one in lines], list(range(len(lines))))
 
     def test_told_lists_are_the_askers_own(self):
         for hall in HALLS:
