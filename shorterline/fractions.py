@@ -55,3 +55,11 @@ def divided(one, other):
 def is_less(one, other):
     """Whether the one FRACTION is less than the other."""
     return one[0] * other[1] < other[0] * one[1]
+
+
+def on_one_bottom(pairs):
+    """Pairs (thing, FRACTION) as a pair: the list of pairs (thing, top), and the one bottom of all these tops."""
+    bottom = 1
+    for thing, fraction in pairs:
+        bottom = bottom * (fraction[1] // greatest_divisor(bottom, fraction[1]))
+    return ([(thing, fraction[0] * (bottom // fraction[1])) for thing, fraction in pairs], bottom)

@@ -83,14 +83,19 @@ def done_at(lines, line):
     return (with_more(lines, line, -1), "served")
 
 
+def next_shift(hall, lines):
+    """The pair of lines from and to which an asker is to be moved, or None."""
+    if not hall[2] or 0 not in lines or max(lines) < 2:
+        return None
+    return (lines.index(max(lines)), lines.index(0))
+
+
 def settled(hall, lines):
     """The lines where all are moved that are to be, where the hall moves askers."""
-    if not hall[2]:
-        return lines
-    while 0 in lines and max(lines) > 1:
-        longest = lines.index(max(lines))
-        void = lines.index(0)
-        lines = with_more(with_more(lines, longest, -1), void, 1)
+    shift = next_shift(hall, lines)
+    while shift is not None:
+        lines = with_more(with_more(lines, shift[0], -1), shift[1], 1)
+        shift = next_shift(hall, lines)
     return lines
 
 
@@ -101,13 +106,23 @@ def turn_behind(hall, rule, turn):
     return turn
 
 
+def line_of(hall, rule, stand, move):
+    """The line to which the asker of a move is sent or whose server is done; of still None."""
+    if move[0] == "come":
+        return sent_to(hall, rule, stand, move[1])
+    if move[0] == "done":
+        return move[1]
+    return None
+
+
 def moved_on(hall, rule, stand, move):
     """The pair (stand, word) that a move makes of a stand by a rule."""
     lines, turn = stand
     word = "none"
+    line = line_of(hall, rule, stand, move)
     if move[0] == "come":
-        lines, word = come_to(hall, lines, sent_to(hall, rule, stand, move[1]))
+        lines, word = come_to(hall, lines, line)
         turn = turn_behind(hall, rule, turn)
     elif move[0] == "done":
-        lines, word = done_at(lines, move[1])
+        lines, word = done_at(lines, line)
     return ((settled(hall, lines), turn), word)

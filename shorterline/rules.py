@@ -1,6 +1,6 @@
 """RULEs: to which line an asker is sent."""
 
-from shorterline.fractions import divided, is_less
+from shorterline.fractions import is_less
 from shorterline.halls import count_of_lines, is_line, place_of_lines
 from shorterline.plain import is_tuple_of
 
@@ -34,8 +34,10 @@ def first_shortest(lines, order):
 
 
 def wait_at(hall, lines, line):
-    """How many would be at a line with one more asker, divided by its speed."""
-    return divided((lines[line] + 1, 1), hall[1][line][0])
+    """How many would be at a line with one more asker, divided by its speed: a pair (top, bottom)."""
+    # It is only compared, so a common divisor may stay.
+    top, bottom = hall[1][line][0]
+    return ((lines[line] + 1) * bottom, top)
 
 
 def first_quickest(hall, lines, order):

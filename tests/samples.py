@@ -1,4 +1,11 @@
-"""Things that several tests hand in: halls, and plain things that are of no asked kind."""
+"""Things that several tests hand in: halls, rules, runs, and plain things that are of no asked kind."""
+
+import random
+from fractions import Fraction
+from math import factorial
+
+from shorterline.halls import all_lines
+from shorterline.moves import all_orders, moved_on
 
 HALF = (1, 2)
 
@@ -20,6 +27,150 @@ HALLS = (
     ONE_SERVER, ONE_MOVED, TWO_ALIKE, TWO_MOVED, TWO_UNLIKE,
     THREE_ALIKE, THREE_UNLIKE, FOUR_ALIKE, FOUR_UNLIKE,
 )
+
+
+# Of these more than sixty stands come by most rules.
+LARGE = ((1, 9), (((2, 9), 6),) * 3, False)
+LARGEST = ((1, 10), (((1, 5), 6), ((1, 10), 6), ((1, 5), 6), ((3, 10), 6)), False)
+
+# By random sixty-one stands come here.
+SIXTY_ONE = ((1, 4), (((1, 8), 3), ((1, 8), 3), ((1, 8), 6)), True)
+SIXTY = ((1, 4), (((1, 8), 2), ((1, 8), 3), ((1, 8), 4)), False)
+
+WORDS = ("random", "turns", "two", "least", "quick")
+
+
+def places_of(hall, start=0):
+    """Places that tell several lines, so that a wrong place shows."""
+    many = len(hall[1])
+    return tuple((start + 2 * number + number // many) % many for number in range(len(all_lines(hall))))
+
+
+def rules_of(hall):
+    return [(word,) for word in WORDS] + [("told", places_of(hall))]
+
+
+def told_by(hall, choice):
+    """The told rule that sends as a choice of a line for each LINES says."""
+    return ("told", tuple(choice(lines) for lines in all_lines(hall)))
+
+
+def turns_of(hall, rule):
+    return range(len(hall[1])) if rule == ("turns",) else (0,)
+
+
+def stands_of(hall, rule):
+    """All stands by a rule, rising, come or not."""
+    return [(lines, turn) for lines in all_lines(hall) for turn in turns_of(hall, rule)]
+
+
+def moves_of(hall):
+    lines = range(len(hall[1]))
+    return [("come", order) for order in all_orders(hall)] + [("done", line) for line in lines] + [("still",)]
+
+
+STILL = ("still",)
+
+
+def come(*order):
+    return ("come", order)
+
+
+def done(line):
+    return ("done", line)
+
+
+def run_of(hall, many, seed, comes=2):
+    """A run of so many moves, the same for each seed; the more comes, the more askers."""
+    dice = random.Random(seed)
+    orders = all_orders(hall)
+    moves = []
+    for _ in range(many):
+        throw = dice.randrange(comes + len(hall[1]) + 1)
+        if throw < comes:
+            moves.append(("come", dice.choice(orders)))
+        elif throw < comes + len(hall[1]):
+            moves.append(("done", throw - comes))
+        else:
+            moves.append(("still",))
+    return tuple(moves)
+
+
+def with_rest(hall):
+    """The hall with all shares halved, so that something of a turn is left."""
+    come, servers, moved = hall
+    return (pair(number(come) / 2), tuple((pair(number(speed) / 2), room) for speed, room in servers), moved)
+
+
+def without_rest(hall):
+    """The hall with all shares grown alike, so that nothing of a turn is left."""
+    come, servers, moved = hall
+    whole = number(come) + sum(number(speed) for speed, _ in servers)
+    return (pair(number(come) / whole), tuple((pair(number(speed) / whole), room) for speed, room in servers), moved)
+
+
+def with_moved(hall, moved):
+    return (hall[0], hall[1], moved)
+
+
+def number(fraction):
+    """A FRACTION as Python's own."""
+    return Fraction(fraction[0], fraction[1])
+
+
+def pair(value):
+    """Python's own fraction as a FRACTION."""
+    value = Fraction(value)
+    return (value.numerator, value.denominator)
+
+
+def share_of(hall, move):
+    """A move's share of a turn as promise 20 words it."""
+    if move[0] == "come":
+        return number(hall[0]) / factorial(len(hall[1]))
+    if move[0] == "done":
+        return number(hall[1][move[1]][0])
+    return 1 - number(hall[0]) - sum(number(speed) for speed, _ in hall[1])
+
+
+def left(hall, rule, shares):
+    """What a turn leaves of shares by stands, each move made by moved_on."""
+    behind = {}
+    for stand, share in shares.items():
+        for move in moves_of(hall):
+            if share_of(hall, move) > 0:
+                to = moved_on(hall, rule, stand, move)[0]
+                behind[to] = behind.get(to, 0) + share * share_of(hall, move)
+    return behind
+
+
+def told(shares):
+    return tuple((stand, pair(shares[stand])) for stand in sorted(shares))
+
+
+def lines_turned(lines, order):
+    """LINES of a hall as they stand in the hall turned by an ORDER."""
+    return tuple(lines[line] for line in order)
+
+
+def rule_turned(hall, rule, order):
+    """A rule of a hall as that of the hall turned by an ORDER."""
+    if rule[0] != "told":
+        return rule
+    told = {lines_turned(lines, order): order.index(line) for lines, line in zip(all_lines(hall), rule[1])}
+    return ("told", tuple(told[lines] for lines in sorted(told)))
+
+
+def run_turned(run, order):
+    """A run of a hall as that of the hall turned by an ORDER."""
+    turned = []
+    for move in run:
+        if move[0] == "come":
+            move = ("come", tuple(order.index(line) for line in move[1]))
+        elif move[0] == "done":
+            move = ("done", order.index(move[1]))
+        turned.append(move)
+    return tuple(turned)
 
 
 def nested(depth):

@@ -7,7 +7,7 @@ from fractions import Fraction
 from samples import ODD_THINGS
 from shorterline.errors import NoFraction
 from shorterline.fractions import (
-    added, divided, fraction_of, is_fraction, is_less, multiplied, taken_off,
+    added, divided, fraction_of, is_fraction, is_less, multiplied, on_one_bottom, taken_off,
 )
 
 FORTY = 10 ** 40 - 1
@@ -136,6 +136,19 @@ class ReckoningTest(unittest.TestCase):
             back = divided(back, (FORTY, 10 ** 39))
         self.assertIs(is_fraction(large), True)
         self.assertEqual(back, (1, 1))
+
+
+class OneBottomTest(unittest.TestCase):
+    def test_by_hand(self):
+        self.assertEqual(on_one_bottom([]), ([], 1))
+        self.assertEqual(on_one_bottom([("a", (1, 2)), ("b", (1, 3))]), ([("a", 3), ("b", 2)], 6))
+        self.assertEqual(on_one_bottom((("a", (5, 4)), ("b", (-1, 6)))), ([("a", 15), ("b", -2)], 12))
+        self.assertEqual(on_one_bottom([("a", (2, 1)), ("a", (0, 1))]), ([("a", 2), ("a", 0)], 1))
+
+    def test_tops_and_bottoms(self):
+        tops, bottom = on_one_bottom([(fraction, fraction) for fraction in FRACTIONS])
+        for fraction, top in tops:
+            self.assertEqual(fraction_of(top, bottom), fraction)
 
 
 if __name__ == "__main__":

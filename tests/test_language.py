@@ -74,12 +74,13 @@ def is_plain_value(node):
     return isinstance(node, (ast.Constant, ast.Name))
 
 
-class LanguageTest(unittest.TestCase):
-    def each_node(self):
-        for path in files():
-            for node in ast.walk(tree_of(path)):
-                yield f"{path.name}:{getattr(node, 'lineno', 0)}", node
+# Kept, so that a node met again is the same one.
+NODES_OF_ALL = [
+    (f"{path.name}:{getattr(node, 'lineno', 0)}", node) for path in files() for node in ast.walk(tree_of(path))
+]
 
+
+class LanguageTest(unittest.TestCase):
     def test_files_and_signs(self):
         self.assertTrue((PACKAGE / "__init__.py").is_file())
         for path in PACKAGE.rglob("*"):
@@ -95,7 +96,7 @@ class LanguageTest(unittest.TestCase):
             self.assertIsNone(FORBIDDEN.search(text), path)
 
     def test_nodes(self):
-        for place, node in self.each_node():
+        for place, node in NODES_OF_ALL:
             self.assertIn(type(node).__name__, NODES, place)
             if isinstance(node, ast.Constant):
                 self.assertNotIsInstance(node.value, (float, complex), place)
@@ -137,7 +138,7 @@ class LanguageTest(unittest.TestCase):
                 del draws[name]
 
     def test_functions_and_classes(self):
-        for place, node in self.each_node():
+        for place, node in NODES_OF_ALL:
             if isinstance(node, (ast.FunctionDef, ast.ClassDef)):
                 self.assertEqual(node.decorator_list, [], place)
             if isinstance(node, ast.FunctionDef):
@@ -150,7 +151,7 @@ class LanguageTest(unittest.TestCase):
                     self.assertIsInstance(row, ast.FunctionDef, place)
 
     def test_names(self):
-        for place, node in self.each_node():
+        for place, node in NODES_OF_ALL:
             if isinstance(node, ast.Name):
                 name, given = node.id, not isinstance(node.ctx, ast.Load)
             elif isinstance(node, ast.arg):
@@ -178,15 +179,42 @@ class LanguageTest(unittest.TestCase):
 
     def test_methods_that_are_called(self):
         own = {
-            row.name for _, node in self.each_node() if isinstance(node, ast.ClassDef)
+            row.name for _, node in NODES_OF_ALL if isinstance(node, ast.ClassDef)
             for row in node.body if isinstance(row, ast.FunctionDef)
         }
-        for place, node in self.each_node():
+        for place, node in NODES_OF_ALL:
             if isinstance(node, ast.Call) and isinstance(node.func, ast.Attribute):
                 self.assertIn(node.func.attr, METHODS | own, place)
 
+    def test_methods_and_values_of_objects(self):
+        methods, given, asked = {}, {}, {}
+        called = {id(node.func) for _, node in NODES_OF_ALL if isinstance(node, ast.Call)}
+        for place, node in NODES_OF_ALL:
+            if isinstance(node, ast.ClassDef):
+                names = [row.name for row in node.body if isinstance(row, ast.FunctionDef)]
+                self.assertEqual(len(names), len(set(names)), place)
+                methods.update((name, place) for name in names if name != "__init__")
+            if isinstance(node, ast.Attribute) and id(node) not in called:
+                (asked if isinstance(node.ctx, ast.Load) else given)[node.attr] = place
+        self.assertEqual(set(methods) & set(given), set())
+        self.assertLessEqual(set(asked), set(given))
+        of_python = {name for kind in (str, int, list, dict, set, bytes) for name in dir(kind)}
+        self.assertEqual((set(methods) | set(given)) & of_python, set())
+
+    def test_what_is_walked_is_not_changed(self):
+        changes = ("append", "clear", "extend", "insert", "pop", "remove", "reverse", "setdefault", "update", "sort")
+        for place, loop in NODES_OF_ALL:
+            if not isinstance(loop, ast.For):
+                continue
+            walked = {node.id for node in ast.walk(loop.iter) if isinstance(node, ast.Name)}
+            for node in ast.walk(loop):
+                if isinstance(node, ast.Call) and isinstance(node.func, ast.Attribute) and node.func.attr in changes:
+                    self.assertFalse(isinstance(node.func.value, ast.Name) and node.func.value.id in walked, place)
+                if isinstance(node, ast.Subscript) and not isinstance(node.ctx, ast.Load):
+                    self.assertFalse(isinstance(node.value, ast.Name) and node.value.id in walked, place)
+
     def test_operators(self):
-        for place, node in self.each_node():
+        for place, node in NODES_OF_ALL:
             if isinstance(node, ast.Compare):
                 things = [node.left] + node.comparators
                 for operator, left, right in zip(node.ops, things, things[1:]):
@@ -198,7 +226,7 @@ class LanguageTest(unittest.TestCase):
 
     def test_walked_at_once(self):
         lazy = ("zip", "enumerate", "reversed", "range")
-        for place, node in self.each_node():
+        for place, node in NODES_OF_ALL:
             if isinstance(node, ast.Assign) and isinstance(node.value, ast.Call):
                 called = node.value.func
                 self.assertFalse(isinstance(called, ast.Name) and called.id in lazy, place)

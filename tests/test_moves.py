@@ -6,28 +6,11 @@ import unittest
 
 from samples import (
     FOUR_ALIKE, FOUR_UNLIKE, HALLS, ODD_THINGS, ONE_SERVER, THREE_ALIKE, THREE_UNLIKE,
-    TWO_ALIKE, TWO_MOVED, TWO_UNLIKE,
+    TWO_ALIKE, TWO_MOVED, TWO_UNLIKE, moves_of, rules_of, turns_of,
 )
 from shorterline.halls import all_lines
 from shorterline.moves import all_orders, first_stand, is_move, is_run, is_stand, moved_on
 from shorterline.rules import sent_to
-
-WORDS = ("random", "turns", "two", "least", "quick")
-
-
-def rules_of(hall):
-    many = len(hall[1])
-    places = tuple((2 * number + number // many) % many for number in range(len(all_lines(hall))))
-    return [(word,) for word in WORDS] + [("told", places)]
-
-
-def turns_of(hall, rule):
-    return range(len(hall[1])) if rule == ("turns",) else (0,)
-
-
-def moves_of(hall):
-    lines = range(len(hall[1]))
-    return [("come", order) for order in all_orders(hall)] + [("done", line) for line in lines] + [("still",)]
 
 
 class FirstStandTest(unittest.TestCase):

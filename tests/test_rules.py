@@ -5,17 +5,11 @@ import itertools
 import unittest
 from fractions import Fraction
 
-from samples import FOUR_UNLIKE, HALLS, ODD_THINGS, ONE_SERVER, THREE_UNLIKE, TWO_ALIKE, TWO_UNLIKE
+from samples import (
+    FOUR_UNLIKE, HALLS, ODD_THINGS, ONE_SERVER, THREE_UNLIKE, TWO_ALIKE, TWO_UNLIKE, WORDS, places_of,
+)
 from shorterline.halls import all_lines
 from shorterline.rules import is_rule, sent_to
-
-WORDS = ("random", "turns", "two", "least", "quick")
-
-
-def places_of(hall, start=0):
-    """Places that tell several lines, so that a wrong place shows."""
-    many = len(hall[1])
-    return tuple((start + 2 * number + number // many) % many for number in range(len(all_lines(hall))))
 
 
 def orders_of(hall):

@@ -3,13 +3,11 @@
 import itertools
 import unittest
 
-from samples import FOUR_UNLIKE, HALLS, ONE_SERVER, THREE_UNLIKE
+from samples import FOUR_UNLIKE, HALLS, ONE_SERVER, THREE_UNLIKE, WORDS
 from shorterline.errors import NoText
 from shorterline.halls import all_lines
 from shorterline.rules import is_rule
 from shorterline.ruletexts import read_rule, rule_text
-
-WORDS = ("random", "turns", "two", "least", "quick")
 
 # Of this hall a told rule has four places, each 0 or 1.
 SMALL = ((1, 2), (((1, 4), 1), ((1, 4), 1)), False)
