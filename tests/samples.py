@@ -4,8 +4,10 @@ import random
 from fractions import Fraction
 from math import factorial
 
+from shorterline.errors import TooMany
 from shorterline.halls import all_lines
 from shorterline.moves import all_orders, moved_on
+from shorterline.sharing import shares_of
 
 HALF = (1, 2)
 
@@ -28,6 +30,8 @@ HALLS = (
     THREE_ALIKE, THREE_UNLIKE, FOUR_ALIKE, FOUR_UNLIKE,
 )
 
+# By turns, too, sixty stands at most come here.
+THREE_SMALL = ((1, 4), (((1, 4), 1), ((1, 8), 2), ((1, 8), 1)), False)
 
 # Of these more than sixty stands come by most rules.
 LARGE = ((1, 9), (((2, 9), 6),) * 3, False)
@@ -145,7 +149,36 @@ def left(hall, rule, shares):
 
 
 def told(shares):
+    """Shares by stands as a tuple of pairs (stand, share), rising."""
     return tuple((stand, pair(shares[stand])) for stand in sorted(shares))
+
+
+def papers(halls=HALLS + (THREE_SMALL,)):
+    """Halls and rules with their share papers, where sixty stands at most come."""
+    for hall in halls:
+        for rule in rules_of(hall):
+            try:
+                paper = shares_of(hall, rule)
+            except TooMany:
+                continue
+            yield hall, rule, paper
+
+
+def product_paper(hall):
+    """The share paper by random, askers not moved: there each line goes by itself.
+
+    In a line one more is there by come / lines, one less by speed, so each number of askers has the share of the one
+    below it times the quotient of both.
+    """
+    come, servers, _ = hall
+    shares = {}
+    for lines in all_lines(hall):
+        share = Fraction(1)
+        for many, (speed, _) in zip(lines, servers):
+            share *= (number(come) / len(servers) / number(speed)) ** many
+        shares[(lines, 0)] = share
+    whole = sum(shares.values())
+    return told({stand: share / whole for stand, share in shares.items()})
 
 
 def lines_turned(lines, order):
