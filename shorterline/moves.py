@@ -64,6 +64,12 @@ def all_orders(hall):
     return orders
 
 
+def all_moves(hall):
+    """All MOVEs of a hall, of share 0 too."""
+    dones = [("done", line) for line in range(len(hall[1]))]
+    return [("come", order) for order in all_orders(hall)] + dones + [("still",)]
+
+
 def with_more(lines, line, more):
     """The lines with so many more at one of them."""
     return lines[:line] + (lines[line] + more,) + lines[line + 1:]

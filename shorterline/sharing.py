@@ -32,9 +32,8 @@ def reduced(row, head, divisor):
 
 
 def stepped(rows):
-    """The rows as steps, each a number shorter than the one ahead of it."""
-    # Each number is a determinant of the rows, so the divisor of the step ahead always goes off without a rest;
-    # the first stand comes from everywhere, so no step's first number is 0.
+    """The rows as steps, each a number shorter than the one ahead of it; no step's first number may be 0."""
+    # Each number is a determinant of the rows, so the divisor of the step ahead always goes off without a rest.
     steps = []
     divisor = 1
     while len(rows) > 0:
@@ -45,14 +44,24 @@ def stepped(rows):
     return steps
 
 
-def balanced(flows):
-    """A whole weight for each stand, such that a turn leaves all as they are."""
-    steps = stepped(balances_of(flows))
-    first = steps[-1][0]
+def solved(rows):
+    """What rows come to, one for each unknown: the pair (weights, whole), each unknown being its weight / whole.
+
+    A row has a number for each unknown, and last what these times the unknowns are together.
+    """
+    steps = stepped(rows)
+    whole = steps[-1][0]
     weights = []
     for row in reversed(steps):
-        known = sum([share * weight for share, weight in zip(row[1:-1], weights)])
-        weights = [(first * row[-1] - known) // row[0]] + weights
+        known = sum([part * weight for part, weight in zip(row[1:-1], weights)])
+        weights = [(whole * row[-1] - known) // row[0]] + weights
+    return (weights, whole)
+
+
+def balanced(flows):
+    """A whole weight for each stand, such that a turn leaves all as they are."""
+    # The first stand comes from everywhere, so no step's first number is 0.
+    weights, first = solved(balances_of(flows))
     return [first] + weights
 
 

@@ -153,6 +153,27 @@ def told(shares):
     return tuple((stand, pair(shares[stand])) for stand in sorted(shares))
 
 
+# Fees and lesses: 0, small ones, and those at the bounds of promise 50.
+FEES = ((0, 1), (1, 10000), (3, 2), (10000, 1))
+LESSES = ((0, 1), (1, 10000), (2, 3), (9999, 10000))
+
+
+def made_of(hall, rule, fee, less, worths, stand):
+    """What promise 50 has of a stand by worths, Python's own fractions by stands: each move made by moved_on."""
+    mean = Fraction(0)
+    for move in moves_of(hall):
+        behind, word = moved_on(hall, rule, stand, move)
+        mean += share_of(hall, move) * (worths[behind] + (number(fee) if word == "away" else 0))
+    return sum(stand[0]) + number(less) * mean
+
+
+def price_by_hand(hall, fee, table, lines, line):
+    """The price of a line as promise 51 words it, by Python's own fractions and moved_on."""
+    places = all_lines(hall)
+    (behind, _), word = moved_on(hall, ("told", (line,) * len(places)), (lines, 0), ("come", all_orders(hall)[0]))
+    return number(table[places.index(behind)]) + (number(fee) if word == "away" else 0)
+
+
 def papers(halls=HALLS + (THREE_SMALL,)):
     """Halls and rules with their share papers, where sixty stands at most come."""
     for hall in halls:
