@@ -174,6 +174,35 @@ def price_by_hand(hall, fee, table, lines, line):
     return number(table[places.index(behind)]) + (number(fee) if word == "away" else 0)
 
 
+def kept(hall, lines):
+    """KEPT lines as promise 60 words them."""
+    alike = len(set(hall[1])) == 1
+    return tuple(sorted(lines)[::-1]) if alike else lines
+
+
+def kept_behind(hall, rule, lines, move):
+    """The kept lines behind a move of kept lines, and the move's word."""
+    (behind, _), word = moved_on(hall, rule, (lines, 0), move)
+    return kept(hall, behind), word
+
+
+def lead_behind(lead, one_word, other_word):
+    """How many more the other rule turned away behind a move of these words."""
+    return lead + (other_word == "away") - (one_word == "away")
+
+
+def all_behind(hall, one, other, triple):
+    """What all moves make of a triple (x, y, lead)."""
+    x, y, lead = triple
+    for move in moves_of(hall):
+        (to_x, one_word), (to_y, other_word) = kept_behind(hall, one, x, move), kept_behind(hall, other, y, move)
+        yield move, (to_x, to_y, lead_behind(lead, one_word, other_word))
+
+
+def begin_of(hall):
+    return ((0,) * len(hall[1]), (0,) * len(hall[1]), 0)
+
+
 def papers(halls=HALLS + (THREE_SMALL,)):
     """Halls and rules with their share papers, where sixty stands at most come."""
     for hall in halls:
